@@ -110,3 +110,15 @@ def sample_ways(program, seed):
         if changes:
             ways.append((word, changes))
     return ways
+
+
+def siblings(seed, many):
+    """Programs made by lot that have the same parts' lines, and unlike expressions."""
+    maker = Maker(seed)
+    lines = maker.text().split("\n")[:-1]
+    told = []
+    for _ in range(many):
+        run = "run " + maker.e(maker.kind(1), {}, 5)
+        if max(len(line.split(" ")) for line in lines + [run]) <= 120:
+            told.append(Program("\n".join(lines + [run])))
+    return told

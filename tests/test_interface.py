@@ -14,6 +14,18 @@ FUNCTIONS = {
     "runs": {"ended": ["program", "way", "most"]},
     "uses": {"is_table": ["value"], "heights": ["table"], "tidied": ["table", "uses"], "united": ["table", "looks"],
              "parted": ["table", "use", "some"], "held": ["table", "use"], "uses_text": ["table"], "uses_in": ["text"]},
+    "papers": {"paper": ["program", "way", "most"], "is_paper": ["program", "way", "value"],
+               "wrong_row": ["program", "way", "value"], "shows_wrong_row": ["program", "way", "claim", "value"],
+               "paper_end": ["program", "way", "value"], "ordered": ["program", "way", "value"]},
+    "moments": {"looked": ["program", "way", "most"], "called": ["program", "way", "most"],
+                "still": ["program", "way", "most", "number"], "over": ["program", "way", "most", "number"],
+                "left": ["program", "way", "most", "number"], "needed": ["program", "way", "most"],
+                "free_early": ["program", "most"], "free_anew": ["program", "most"]},
+    "ways": {"counts": ["program", "way", "most"], "three": ["program", "most"], "least_times": ["program", "way", "most"],
+             "mixtures": ["program", "some"], "cheapest": ["program", "some", "most"],
+             "dearest": ["program", "some", "most"], "alike_ways": ["program", "one", "other", "most"]},
+    "pieces": {"pieces": ["program", "way", "most"], "is_piece": ["program", "way", "value"],
+               "requests": ["program", "way", "value"]},
 }
 METHODS = {
     ("texts", "Program"): {"__init__": ["text"], "line": ["name"], "word": ["place"], "inner": ["place"],

@@ -59,6 +59,37 @@ def names_of(entry):
     return [use for _, use in asked] + [use for looks, _ in asked for use, _ in looks]
 
 
+def held_entry(value):
+    """What tells that nothing is made of a value, of the kind that comes first in it."""
+    if value[0] == "number":
+        return ("number", value[1])
+    return ("function", ()) if value[0] == "function" else ("pair", (), ())
+
+
+def called_entry(looks, use):
+    """What is made of a function by one call."""
+    return ("function", (((looks, use), 1),))
+
+
+def half_entry(kind, use):
+    """What first, or second, makes of a pair."""
+    looks = ((use, 1),)
+    return ("pair", looks, ()) if kind == "first" else ("pair", (), looks)
+
+
+def is_held(entry):
+    """Whether an entry tells that nothing is made."""
+    return entry[0] == "number" or not any([bool(made) for made in entry[1:]])
+
+
+def width(entry):
+    """How many pairs of something and its count stand in an entry."""
+    wide = sum([len(made) for made in entry[1:]]) if entry[0] != "number" else 0
+    if entry[0] == "function":
+        wide = wide + sum([len(asked[0]) for asked, _ in entry[1]])
+    return wide
+
+
 def gathered(counted):
     """Pairs of a thing and a count, ascending, the counts of one thing added."""
     counts = {}

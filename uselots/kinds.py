@@ -28,6 +28,11 @@ def is_between(value, least, most):
     return is_integer(value) and least <= value <= most
 
 
+def clamped(number):
+    """The number, or the nearest one that is not beyond the bounds."""
+    return max(-GREATEST, min(GREATEST, number))
+
+
 def is_count(value):
     return is_integer(value) and value >= 1
 

@@ -8,6 +8,7 @@ Values are ("number", integer), ("function", step), ("pair", step).
 """
 
 from uselots.binding import binding_words
+from uselots.kinds import is_tuple
 
 EMPTY = -1
 NOBODY = -1
@@ -24,8 +25,9 @@ class Machine:
     `known` has, by a bound thing, the value that looks at it give from then on,
     and, by the number of a step, what this step keeps in mind while it waits: a call
     the step that made its function, plus and less their first number, a
-    look the thing that it works out. Nothing in it is ever changed, so steps are
-    taken back by forgetting what came since, in `log`.
+    look the thing that it works out; and, by ("came", step), the value that came
+    of a step itself, not of one that it left its value to. Nothing in it is ever
+    changed, so steps are taken back by forgetting what came since, in `log`.
     """
 
     def __init__(self, program, way):
@@ -87,6 +89,14 @@ class Machine:
     def keep(self, key, what):
         self.known[key] = what
         self.log.append(key)
+
+    def keep_value(self, step, value):
+        """Keeps in mind that value came of step."""
+        self.keep(("came", step), value)
+
+    def came(self):
+        """(step, value) for each value that came of a step itself, in sequence."""
+        return [(key[1], self.known[key]) for key in self.log if is_tuple(key) and key[0] == "came"]
 
     def work_out(self, step, at):
         """The E within step's with number at is due, and step waits for its value."""

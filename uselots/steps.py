@@ -5,7 +5,7 @@ begins; those of TAKERS also with a value for which this step waits. They return
 step's own value, None as long as it has none; then something is due, or the run is stuck.
 """
 
-from uselots.kinds import GREATEST
+from uselots.kinds import clamped
 
 
 def start_number(machine, step):
@@ -85,7 +85,7 @@ def take_sum(machine, step, value):
         return None
     if machine.nodes[step].kind == "less":
         return ("number", 1 if machine.known[step] < what else 0)
-    return ("number", max(-GREATEST, min(GREATEST, machine.known[step] + what)))
+    return ("number", clamped(machine.known[step] + what))
 
 
 def take_pick(machine, step, value):
@@ -141,11 +141,15 @@ def advance(machine):
     step = machine.enter()
     start = STARTS[machine.nodes[step].kind]
     value = start(machine, step)
+    giving = step
     waiting = machine.behind[step]
     while value is not None and waiting >= 0:
+        machine.keep_value(giving, value)
         take = TAKERS[machine.nodes[waiting].kind]
         value = take(machine, waiting, value)
+        giving = waiting
         waiting = machine.behind[waiting]
     if value is not None:
+        machine.keep_value(giving, value)
         machine.outcome = machine.tell(value)
     return step

@@ -1,6 +1,6 @@
 """Uses: what is made of values, told by TABLES whose entries name one another."""
 
-from uselots.entries import entry_in, entry_text, is_entry, is_looks, is_use, rest, total
+from uselots.entries import entry_in, entry_text, is_entry, is_held, is_looks, is_use, rest, total
 from uselots.errors import BadLooks, BadTable, BadText, BadUse, BadUses, Unlike
 from uselots.kinds import is_text, is_tuple
 from uselots.tidying import heights_of, tidy_table
@@ -78,8 +78,7 @@ def held(table, use):
     """Whether nothing is made of use."""
     check_table(table)
     check_use(table, use)
-    entry = table[use]
-    return entry[0] == "number" or not any([bool(made) for made in entry[1:]])
+    return is_held(table[use])
 
 
 def uses_text(table):
