@@ -8,15 +8,6 @@ from uselots.entries import called_entry, gathered, half_entry, is_held, total
 from uselots.kinds import clamped
 
 
-def keeps_rule(sheet, row):
-    """Whether a row keeps the rule of its kind."""
-    apart = children_apart(sheet, row)
-    if apart is None:
-        return False
-    rule = RULES[sheet.nodes[row].kind]
-    return rule(sheet, row, apart)
-
-
 def children_apart(sheet, row):
     """The rows under a row, those for each E apart; None if one is for no E that may stand there."""
     inner = sheet.inner(row)
@@ -143,3 +134,12 @@ RULES = {
     "first": keeps_half,
     "second": keeps_half,
 }
+
+
+def keeps_rule(sheet, row):
+    """Whether a row keeps the rule of its kind."""
+    apart = children_apart(sheet, row)
+    if apart is None:
+        return False
+    rule = RULES[sheet.nodes[row].kind]
+    return rule(sheet, row, apart)

@@ -51,18 +51,18 @@ class Usage:
             return self._sum(step, thing)
         kind = trace.machine.nodes[began].kind
         if kind == "call":
-            return self.store.put(called_entry(self.looks_from((began, 0), 0), self.uses[began]))
+            return self.store.put(called_entry(self._looks((began, 0)), self.uses[began]))
         if kind in ("first", "second"):
             return self.store.put(half_entry(kind, self.uses[began]))
         return self.store.put(trace.worths[step])
 
-    def looks_from(self, thing, moment):
-        """The LOOKS that all steps from moment on make of a bound thing."""
-        return gathered([(self.uses[step], 1) for step in self.trace.looks_at(thing, moment)])
+    def _looks(self, thing):
+        """The LOOKS that are made of a bound thing."""
+        return gathered([(self.uses[step], 1) for step in self.trace.looks_at(thing, 0)])
 
     def _sum(self, step, thing):
         """What is made in all of a bound thing that step works out."""
-        looks = self.looks_from(thing, 0)
+        looks = self._looks(thing)
         if not looks:
             return self.store.put(held_entry(self.trace.worths[step]))
         if len(looks) == 1 and looks[0][1] == 1:
