@@ -44,6 +44,16 @@ def read(name, words, at):
     return ((name, start), word, bound, inner), at
 
 
+def trees_of(text):
+    """By the name of its line each E of a text, as read tells it."""
+    trees = {}
+    for line in text.split("\n"):
+        words = line.split(" ")
+        name, at = ("run", 1) if words[0] == "run" else (words[1], 2)
+        trees[name] = read(name, words, at)[0]
+    return trees
+
+
 class Reference:
     """The run of a text by a way, behind at most so many steps.
 
@@ -51,11 +61,7 @@ class Reference:
     """
 
     def __init__(self, text, way, most):
-        self.trees = {}
-        for line in text.split("\n"):
-            words = line.split(" ")
-            name, at = ("run", 1) if words[0] == "run" else (words[1], 2)
-            self.trees[name] = read(name, words, at)[0]
+        self.trees = trees_of(text)
         self.word, self.changes = (way, {}) if isinstance(way, str) else (way[0], dict(way[1]))
         self.most = most
         self.unders, self.begins, self.moments, self.waiting = [], [], [], []

@@ -4,7 +4,7 @@ Runs are worked out once more, by recursion, as in reference.py. Nothing is told
 the end back: what a row's value was used for is what was written down at its tap.
 """
 
-from reference import Going, Stuck, read
+from reference import Going, Stuck, trees_of
 from tables import counted
 
 
@@ -36,11 +36,7 @@ class Taps:
     """
 
     def __init__(self, text, way, most):
-        self.trees = {}
-        for line in text.split("\n"):
-            words = line.split(" ")
-            name, at = ("run", 1) if words[0] == "run" else (words[1], 2)
-            self.trees[name] = read(name, words, at)[0]
+        self.trees = trees_of(text)
         self.word, self.changes = (way, {}) if isinstance(way, str) else (way[0], dict(way[1]))
         self.most = most
         self.rows, self.taps, self.things, self.calls = [], {}, [], {}
