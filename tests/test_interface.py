@@ -6,7 +6,11 @@ import operator
 import unittest
 
 from helpers import any_values
-from uselots.runs import Run, ended
+from uselots.asking import asked
+from uselots.books import Book, joined, least, needs, size, times
+from uselots.exchanges import exchanged_run, outer_calls
+from uselots.pieces import pieces
+from uselots.runs import ended
 from uselots.texts import Program
 
 FUNCTIONS = {
@@ -26,17 +30,42 @@ FUNCTIONS = {
              "dearest": ["program", "some", "most"], "alike_ways": ["program", "one", "other", "most"]},
     "pieces": {"pieces": ["program", "way", "most"], "is_piece": ["program", "way", "value"],
                "requests": ["program", "way", "value"]},
+    "books": {"size": ["book", "name", "call"], "times": ["book", "name", "call"], "needs": ["book", "name", "call"],
+              "least": ["book", "name", "call"], "joined": ["one", "other"], "whole": ["book", "expression", "piece"],
+              "settled": ["book", "expression"]},
+    "asking": {"is_plain": ["program"], "arity": ["program", "name"], "asked": ["program", "way", "most"]},
+    "exchanges": {"exchanged": ["program", "name", "line"], "outer_calls": ["program", "way", "most", "name"],
+                  "compared": ["program", "way", "most", "name", "line"],
+                  "predicted": ["program", "way", "most", "name", "book"], "exchanged_run": ["run", "name", "line"],
+                  "predicted_run": ["program", "way", "most", "number", "name", "book"]},
+    "alike": {"table": ["program", "name", "numbers", "way"], "alike": ["program", "name", "other", "numbers", "way"],
+              "never_dearer": ["program", "name", "other", "numbers", "way"],
+              "surrounding": ["program", "name", "other", "numbers", "way"],
+              "shows_surrounding": ["program", "name", "other", "numbers", "way", "value"]},
 }
 METHODS = {
     ("texts", "Program"): {"__init__": ["text"], "line": ["name"], "word": ["place"], "inner": ["place"],
                            "around": ["place"], "bound": ["place"], "__eq__": ["other"]},
     ("runs", "Run"): {"__init__": ["program", "way"], "step": [], "go": ["most"], "back": ["many"], "sight": [],
                       "pile": [], "copy": [], "__len__": [], "__eq__": ["other"]},
+    ("books", "Book"): {"__init__": ["parts", "way"], "put": ["piece"], "learn": ["program", "most"],
+                        "drop": ["name", "call"], "piece": ["name", "call"], "__len__": [], "__contains__": ["value"],
+                        "__eq__": ["other"]},
+    ("asking", "Asked"): {"ask": ["name", "numbers"], "run_piece": [], "book": [], "at": ["number"], "__eq__": ["other"]},
 }
 ATTRIBUTES = {
     ("texts", "Program"): ("text", "parts", "places", "bindings"),
     ("runs", "Run"): ("program", "way", "end", "next", "places", "unders", "begins"),
+    ("books", "Book"): ("parts", "way", "pieces"),
+    ("asking", "Asked"): ("end", "steps", "asks"),
 }
+
+
+def one_of_each():
+    """An object of each class of the interface, by its name."""
+    program = Program("part f fun x x\nrun call f 1")
+    return {"Program": program, "Run": ended(program, "need", 1), "Book": Book("part f fun x x", "need"),
+            "Asked": asked(program, "value", 9)}
 
 
 def own(kind, name):
@@ -61,32 +90,33 @@ class Names(unittest.TestCase):
                 self.assertEqual(list(inspect.signature(vars(told)[method]).parameters), ["self"] + parameters, method)
 
     def test_attributes_are_set_when_an_object_is_created(self):
-        program = Program("run 1")
         for (kind, name), attributes in ATTRIBUTES.items():
-            thing = {"Program": program, "Run": Run(program, "need")}[name]
+            thing = one_of_each()[name]
+            self.assertIsInstance(thing, own(kind, name))
             for attribute in attributes:
                 self.assertTrue(hasattr(thing, attribute), attribute)
 
 
 class Conventions(unittest.TestCase):
     def test_operators(self):
-        program = Program("run plus 1 2")
-        things = [program, ended(program, "need", 1)]
+        things = list(one_of_each().values())
         signs = [operator.lt, operator.le, operator.gt, operator.ge, operator.add, operator.sub, operator.mul,
                  operator.floordiv, operator.mod, operator.and_, operator.or_, operator.xor, operator.lshift,
-                 operator.rshift, operator.contains, operator.getitem]
+                 operator.rshift, operator.getitem]
         for thing in things:
+            more = [] if isinstance(thing, Book) else [operator.contains]
             for other in any_values() + things:
-                for sign in signs:
+                for sign in signs + more:
                     with self.assertRaises(TypeError):
                         sign(thing, other)
             for sign in (iter, operator.neg, operator.pos, operator.invert):
                 with self.assertRaises(TypeError):
                     sign(thing)
 
-    def test_a_program_has_no_length(self):
-        with self.assertRaises(TypeError):
-            len(Program("run 1"))
+    def test_programs_and_asked_have_no_length(self):
+        for name in ("Program", "Asked"):
+            with self.assertRaises(TypeError):
+                len(one_of_each()[name])
 
     def test_returned_sequences_are_tuples(self):
         program = Program("part f fun x plus x x\nrun let y 1 call f y")
@@ -106,6 +136,30 @@ class Conventions(unittest.TestCase):
     def test_deeds_of_which_nothing_is_told_return_none(self):
         run = ended(Program("run plus 1 2"), "need", 2)
         self.assertIsNone(run.back(1))
+        program = one_of_each()["Program"]
+        book = Book("part f fun x x", "need")
+        piece = pieces(program, "need", 9)[1]
+        book.put(piece)
+        self.assertIsNone(book.drop(*piece[:2]))
+
+    def test_arguments_are_not_changed(self):
+        program = Program("part f fun x x\nrun plus call f 1 call f 2")
+        run = ended(program, "need", 3)
+        before = (run.program, run.way, run.places, run.next, run.sight(), run.pile())
+        exchanged_run(run, "f", "part f fun y y")
+        self.assertEqual((run.program, run.way, run.places, run.next, run.sight(), run.pile()), before)
+        book = Book("part f fun x x", "need")
+        book.learn(program, 99)
+        told = book.pieces
+        call = outer_calls(program, "need", 99, "f")[0][0]
+        for function in (size, times, needs, least):
+            function(book, "f", call)
+        joined(book, Book("part f fun x x", "need")).drop("f", call)
+        least(book, "f", call).drop("f", call)
+        self.assertEqual(book.pieces, told)
+        its = asked(program, "value", 9)
+        its.book().drop("f", call)
+        self.assertEqual(len(its.book()), 2)
 
 
 if __name__ == "__main__":

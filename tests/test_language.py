@@ -7,6 +7,8 @@ import pathlib
 import re
 import unittest
 
+from uselots import errors
+
 FOLDER = pathlib.Path(__file__).parent.parent / "uselots"
 BUILTINS = set("""len range enumerate zip min max sum abs sorted reversed int str bool list tuple dict set isinstance
 ord repr any all divmod iter next type map Exception ValueError TypeError KeyError IndexError LookupError
@@ -117,8 +119,16 @@ class Module(unittest.TestCase):
 
 class Expressions(unittest.TestCase):
     def test_statements_and_signs_that_are_not_used(self):
-        wrong = (ast.AsyncFunctionDef, ast.Global, ast.Await, ast.Yield, ast.YieldFrom, ast.Div, ast.MatMult, ast.Try)
+        wrong = (ast.AsyncFunctionDef, ast.Global, ast.Await, ast.Yield, ast.YieldFrom, ast.Div, ast.MatMult)
         self.assertEqual([where(*row) for row in walk(wrong)], [])
+
+    def test_own_errors_alone_are_caught(self):
+        for name, node in walk(ast.Try):
+            self.assertEqual([node.finalbody, node.orelse], [[], []], where(name, node))
+            for handler in node.handlers:
+                kinds = handler.type.elts if isinstance(handler.type, ast.Tuple) else [handler.type]
+                for kind in kinds:
+                    self.assertTrue(issubclass(getattr(errors, kind.id), errors.UseError), where(name, node))
 
     def test_constants(self):
         for name, node in walk(ast.Constant):

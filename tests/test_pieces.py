@@ -4,6 +4,7 @@ import random
 import unittest
 from unittest import mock
 
+from cutter import Cutter
 from helpers import Refusals, any_values
 from judge import Judge, piece_is_right
 from programs import PROGRAMS, programs_and_ways
@@ -15,7 +16,7 @@ from uselots.papers import paper
 from uselots.pieces import is_piece, pieces, requests
 from uselots.runs import ended
 from uselots.texts import Program, joined_text
-from uselots.uses import is_table, tidied
+from uselots.uses import is_table
 
 MOST = 200
 PARTS = "part twice fun x plus x x\npart four fun y call twice call twice y"
@@ -29,47 +30,6 @@ def ending(many, most=MOST):
             yield program, way, paper(program, way, most)
         except (NotEnded, StuckAt):
             pass
-
-
-class Cutter:
-    """A paper cut by hand: rows under rows by recursion, tables by tidied."""
-
-    def __init__(self, program, way, table, rows):
-        self.program, self.table, self.rows = program, table, rows
-        self.judge = Judge(program, way, table, rows)
-        self.looks = {}
-        for row, home in enumerate(self.judge.homes):
-            if home is not None:
-                counts = self.looks.setdefault(home, {})
-                counts[rows[row][1]] = counts.get(rows[row][1], 0) + 1
-
-    def made(self, row):
-        return tuple(sorted(self.looks.get(row, {}).items()))
-
-    def told(self):
-        """All PIECES, one for each body of a part's fun and one for the run's line, also those that are alike."""
-        starts = [row for row, told in enumerate(self.rows) if row == 0 or self.judge.is_part(self.rows[told[2]][0])]
-        return [self.piece(row) for row in starts]
-
-    def piece(self, start):
-        lines = []
-        self.put(start, -1, lines)
-        table, uses = tidied(self.table, tuple(self.rows[row][1] for row, _ in lines))
-        rows = tuple((self.rows[row][0], use, under) for (row, under), use in zip(lines, uses))
-        looks = self.made(start)
-        own, numbers = tidied(self.table, (self.rows[start][1],) + tuple(use for use, _ in looks))
-        call = (own, tuple((number, count) for number, (_, count) in zip(numbers[1:], looks)), numbers[0])
-        return (self.rows[start][0][0], call, table, rows)
-
-    def put(self, row, under, lines):
-        number = len(lines)
-        lines.append((row, under))
-        place = self.rows[row][0]
-        if not self.judge.is_part(place):
-            body = self.program.word(place) == "fun"
-            for child in sorted(self.judge.below[row],
-                                key=lambda its: (self.rows[its][0], self.made(its) if body else (), self.rows[its][1])):
-                self.put(child, number, lines)
 
 
 class Cut(unittest.TestCase):

@@ -41,3 +41,22 @@ def binding_words(program, way):
     for place, its in changes:
         words[place] = its
     return words
+
+
+def way_without(way, name):
+    """The way without its changes in the line of this name: its word alone, if none is left."""
+    if is_text(way):
+        return way
+    word, changes = way
+    left = tuple([change for change in changes if change[0][0] != name])
+    return (word, left) if left else word
+
+
+def changes_in(way, name):
+    """Whether a way has changes in the line of this name."""
+    return way_without(way, name) != way
+
+
+def first_word(way):
+    """The word by which a way binds where it tells no change."""
+    return way if is_text(way) else way[0]

@@ -22,12 +22,12 @@ class Machine:
     the run does), and how long `log` was when it began (`marks`).
     `pending` is the same of the next step, None if there is none; `outcome` is
     the END behind the last step, otherwise None.
-    `known` has, by a bound thing, the value that looks at it give from then on,
-    and, by the number of a step, what this step keeps in mind while it waits: a call
-    the step that made its function, plus and less their first number, a
-    look the thing that it works out; and, by ("came", step), the value that came
-    of a step itself, not of one that it left its value to. Nothing in it is ever
-    changed, so steps are taken back by forgetting what came since, in `log`.
+    `memory` has, by a bound thing, the value that looks at it give from then on,
+    and, by the number of a step, what this step keeps in mind: a call the step that
+    made its function, plus and less their first number, a look the thing that it
+    works out, a part's NAME the node of the part's fun; and, by ("came", step), the
+    value that came of a step itself, not of one that it left its value to. A step changes
+    nothing in it, so steps are taken back by forgetting what came since, in `log`.
     """
 
     def __init__(self, program, way):
@@ -39,7 +39,7 @@ class Machine:
         self.begun_by = []
         self.behind = []
         self.marks = []
-        self.known = {}
+        self.memory = {}
         self.log = []
         self.outcome = None
         self.pending = (program.nodes[("run", 1)], EMPTY, NOBODY, NOBODY, NOBODY)
@@ -47,13 +47,15 @@ class Machine:
     def copied(self, program, way):
         """A machine of the same program and way that stands as this one, by itself."""
         twin = Machine(program, way)
+        twin.words = {place: self.words[place] for place in self.words}
+        twin.funs = {name: self.funs[name] for name in self.funs}
         twin.nodes = list(self.nodes)
         twin.rooms = list(self.rooms)
         twin.under_of = list(self.under_of)
         twin.begun_by = list(self.begun_by)
         twin.behind = list(self.behind)
         twin.marks = list(self.marks)
-        twin.known = {key: self.known[key] for key in self.known}
+        twin.memory = {key: self.memory[key] for key in self.memory}
         twin.log = list(self.log)
         twin.outcome = self.outcome
         twin.pending = self.pending
@@ -78,7 +80,7 @@ class Machine:
         self.outcome = None
         while len(self.log) > self.marks[at]:
             key = self.log.pop()
-            del self.known[key]
+            del self.memory[key]
         del self.nodes[at:]
         del self.rooms[at:]
         del self.under_of[at:]
@@ -87,7 +89,7 @@ class Machine:
         del self.marks[at:]
 
     def keep(self, key, what):
-        self.known[key] = what
+        self.memory[key] = what
         self.log.append(key)
 
     def keep_value(self, step, value):
@@ -96,7 +98,7 @@ class Machine:
 
     def came(self):
         """(step, value) for each value that came of a step itself, in sequence."""
-        return [(key[1], self.known[key]) for key in self.log if is_tuple(key) and key[0] == "came"]
+        return [(key[1], self.memory[key]) for key in self.log if is_tuple(key) and key[0] == "came"]
 
     def work_out(self, step, at):
         """The E within step's with number at is due, and step waits for its value."""
@@ -108,14 +110,14 @@ class Machine:
 
     def go_into(self, step):
         """What is due is F of step's let, or the body of what step's call calls; its value is step's."""
-        made = step if self.nodes[step].kind == "let" else self.known[step]
+        made = step if self.nodes[step].kind == "let" else self.memory[step]
         body = self.fun_of(step).within[-1]
         self.pending = (body, step, made, step, self.behind[step])
 
     def look(self, step, thing):
         """The value that step's look at a bound thing gives; None if this has to be worked out, which is due then."""
-        if thing in self.known:
-            return self.known[thing]
+        if thing in self.memory:
+            return self.memory[thing]
         made, _ = thing
         behind = self.behind[step]
         if self.word(made) == "need":
@@ -144,18 +146,18 @@ class Machine:
         """The node that binds what the call or let of step binds: the fun that is called, the let."""
         if self.nodes[step].kind == "let":
             return self.nodes[step]
-        return self.made_of(self.known[step])
+        return self.made_of(self.memory[step])
 
     def made_of(self, step):
         """The node at which the value stands that step made: a pair, or a fun, for a part's NAME the part's."""
         node = self.nodes[step]
-        return self.funs[node.sign] if node.kind == "part" else node
+        return self.memory[step] if node.kind == "part" else node
 
     def room_around(self, room):
         """The room in which the innermost name of room is not bound yet."""
         if self.nodes[room].kind == "let":
             return self.rooms[room]
-        made = self.known[room]
+        made = self.memory[room]
         return EMPTY if self.nodes[made].kind == "part" else self.rooms[made]
 
     def meant(self, name, room):

@@ -16,12 +16,7 @@ from uselots.uses import is_table
 
 def pieces(program, way, most):
     """All unlike PIECES of the paper: that of the run's line, then by parts in sequence."""
-    table, rows = written(checked(program, way, most))
-    found = cut_pieces(Sheet(program, way, table, rows, True))
-    told = found["run"]
-    for name in program.parts:
-        told = told + sorted(found.get(name, []))
-    return tuple(told)
+    return pieces_of(program, way, checked(program, way, most))
 
 
 def is_piece(program, way, value):
@@ -35,17 +30,33 @@ def requests(program, way, value):
     """((name, CALL), times) for all that a PIECE requests."""
     check_program(program)
     check_way(program, way)
-    sheet = sheet_of(program, way, value)
-    if sheet is None:
+    if sheet_of(program, way, value) is None:
         raise BadPiece(value)
+    return requested(program, value)
+
+
+def requested(program, piece):
+    """The same of what is a PIECE."""
+    _, _, table, rows = piece
     many = {}
-    for row, node in enumerate(sheet.nodes):
+    for place, use, _ in rows:
+        node = program.nodes[place]
         if node.kind == "part":
             at = program.parts.index(node.sign)
-            for asked, count in sheet.entry(row)[1]:
+            for asked, count in table[use][1]:
                 many[(at, asked)] = many.get((at, asked), 0) + count
-    told = [(at, call_cut(sheet.table, asked[0], asked[1]), many[(at, asked)]) for at, asked in many]
+    told = [(at, call_cut(table, asked[0], asked[1]), many[(at, asked)]) for at, asked in many]
     return tuple([((program.parts[at], call), times) for at, call, times in sorted(told)])
+
+
+def pieces_of(program, way, machine):
+    """All unlike PIECES of the paper of a finished machine: that of the run's line, then by parts in sequence."""
+    table, rows = written(machine)
+    found = cut_pieces(Sheet(program, way, table, rows, True))
+    told = found["run"]
+    for name in program.parts:
+        told = told + sorted(found.get(name, []))
+    return tuple(told)
 
 
 def sheet_of(program, way, value):

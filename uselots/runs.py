@@ -1,6 +1,7 @@
 """Runs: a program worked out step by step, forth and back."""
 
 from uselots.checks import check_most, check_program, check_way
+from uselots.elders import elder_way, exchange
 from uselots.errors import BadMany, Ended
 from uselots.kinds import is_between
 from uselots.machine import Machine
@@ -13,11 +14,14 @@ class Run:
     """The run of a program by a way, at first without a step.
 
     `next` is the PLACE of the next step, None behind the end.
+    Of parts exchanged amid it there are (number of steps, line), in sequence.
     """
 
     def __init__(self, program, way):
         check_program(program)
         check_way(program, way)
+        self._begun = (program, way)
+        self._exchanged = ()
         self._program = program
         self._way = way
         self._machine = Machine(program, way)
@@ -55,9 +59,9 @@ class Run:
         return len(self._machine.nodes)
 
     def __eq__(self, other):
-        if not isinstance(other, Run) or self._program != other._program:
+        if not isinstance(other, Run) or self._begun != other._begun or self._exchanged != other._exchanged:
             return False
-        return self._way == other._way and len(self._machine.nodes) == len(other._machine.nodes)
+        return len(self._machine.nodes) == len(other._machine.nodes)
 
     def step(self):
         """Does the next step, and returns its PLACE."""
@@ -78,8 +82,8 @@ class Run:
         return done
 
     def back(self, many):
-        """Takes the last so many steps back."""
-        if not is_between(many, 1, len(self._machine.nodes)):
+        """Takes the last so many steps back, no farther than to where a part was exchanged."""
+        if not is_between(many, 1, len(self._machine.nodes) - self.floor()):
             raise BadMany(many)
         self._machine.rewind(many)
         self._point()
@@ -108,10 +112,28 @@ class Run:
 
     def copy(self):
         """An equal run that goes on by itself."""
-        twin = Run(self._program, self._way)
-        twin._machine = self._machine.copied(self._program, self._way)
+        program, way = self._begun
+        twin = Run(program, way)
+        twin._exchanged = self._exchanged
+        twin._program = self._program
+        twin._way = self._way
+        twin._machine = self._machine.copied(program, way)
         twin.next = self.next
         return twin
+
+    def floor(self):
+        """How many steps were done when the last part was exchanged; 0 if none was."""
+        return self._exchanged[-1][0] if self._exchanged else 0
+
+    def renew(self, program, name):
+        """Goes on with the line that part name has in program, which is else the run's own: Ended."""
+        if self.next is None:
+            raise Ended(self._machine.outcome)
+        self._exchanged = self._exchanged + ((len(self._machine.nodes), program.line(name)),)
+        self._program = program
+        exchange(self._machine, program, self._way, name)
+        self._way = elder_way(self._way, name)
+        self._point()
 
     def _point(self):
         """Sets next to what the machine has due."""
@@ -121,8 +143,8 @@ class Run:
 
 def state(machine, thing):
     """What a look at a bound thing would find: its value, or the PLACE that would be worked out."""
-    if thing in machine.known:
-        return machine.tell(machine.known[thing])
+    if thing in machine.memory:
+        return machine.tell(machine.memory[thing])
     return ("waits", machine.bound_node(thing).place)
 
 

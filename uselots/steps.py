@@ -16,6 +16,12 @@ def start_function(machine, step):
     return ("function", step)
 
 
+def start_part(machine, step):
+    # The line that the part has now: it may be exchanged later.
+    machine.keep(step, machine.funs[machine.nodes[step].sign])
+    return ("function", step)
+
+
 def start_name(machine, step):
     return machine.look(step, machine.meant(machine.nodes[step].sign, machine.rooms[step]))
 
@@ -40,13 +46,13 @@ def start_pair(machine, step):
 
 
 def take_name(machine, step, value):
-    machine.keep(machine.known[step], value)
+    machine.keep(machine.memory[step], value)
     return value
 
 
 def take_call(machine, step, value):
     kind, what = value
-    if step in machine.known:
+    if step in machine.memory:
         machine.keep((step, 0), value)
         machine.go_into(step)
     elif kind != "function":
@@ -65,7 +71,7 @@ def take_let(machine, step, value):
 
 
 def take_pair(machine, step, value):
-    if (step, 1) in machine.known:
+    if (step, 1) in machine.memory:
         machine.keep((step, 2), value)
         return ("pair", step)
     machine.keep((step, 1), value)
@@ -79,13 +85,13 @@ def take_sum(machine, step, value):
     if kind != "number":
         machine.stick(step)
         return None
-    if step not in machine.known:
+    if step not in machine.memory:
         machine.keep(step, what)
         machine.work_out(step, 1)
         return None
     if machine.nodes[step].kind == "less":
-        return ("number", 1 if machine.known[step] < what else 0)
-    return ("number", clamped(machine.known[step] + what))
+        return ("number", 1 if machine.memory[step] < what else 0)
+    return ("number", clamped(machine.memory[step] + what))
 
 
 def take_pick(machine, step, value):
@@ -98,8 +104,8 @@ def take_pick(machine, step, value):
 
 def take_half(machine, step, value):
     """Of first and second: the pair, or the half if step works that out."""
-    if step in machine.known:
-        machine.keep(machine.known[step], value)
+    if step in machine.memory:
+        machine.keep(machine.memory[step], value)
         return value
     kind, what = value
     if kind != "pair":
@@ -111,7 +117,7 @@ def take_half(machine, step, value):
 STARTS = {
     "number": start_number,
     "fun": start_function,
-    "part": start_function,
+    "part": start_part,
     "name": start_name,
     "call": start_first,
     "plus": start_first,
