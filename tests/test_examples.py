@@ -9,7 +9,7 @@ FOLDER = pathlib.Path(__file__).parent / "examples"
 README = FOLDER.parent.parent / "README.md"
 LINES = {"section_04.txt": 7, "section_05.txt": 13, "section_06.txt": 13, "section_07.txt": 15, "section_08.txt": 12,
          "section_09.txt": 10, "section_10.txt": 15, "section_11.txt": 15, "section_12.txt": 19,
-         "section_13.txt": 8}
+         "section_13.txt": 8, "section_14.txt": 9, "section_15.txt": 7}
 
 
 class Examples(unittest.TestCase):
@@ -23,7 +23,7 @@ class Examples(unittest.TestCase):
         code = "\n".join(re.findall(r"```\n(>>> .*?)```", README.read_text(encoding="utf-8"), re.DOTALL))
         told = doctest.DocTestParser().get_doctest(code, {}, "README.md", str(README), 0)
         failed, tried = doctest.DocTestRunner(verbose=False).run(told)
-        self.assertEqual((failed, tried), (0, 44))
+        self.assertEqual((failed, tried), (0, 58))
 
     def test_all_files_are_named_here(self):
         self.assertEqual(sorted(LINES), sorted(path.name for path in FOLDER.glob("*.txt")))

@@ -7,7 +7,9 @@ import unittest
 
 from helpers import any_values
 from uselots.asking import asked
+from uselots.benches import Bench
 from uselots.books import Book, joined, least, needs, size, times
+from uselots.desk import Desk
 from uselots.exchanges import exchanged_run, outer_calls
 from uselots.pieces import pieces
 from uselots.runs import ended
@@ -42,6 +44,11 @@ FUNCTIONS = {
               "never_dearer": ["program", "name", "other", "numbers", "way"],
               "surrounding": ["program", "name", "other", "numbers", "way"],
               "shows_surrounding": ["program", "name", "other", "numbers", "way", "value"]},
+    "charges": {"begun": ["program", "way", "most"], "path": ["program", "way", "most", "number"],
+                "by_place": ["program", "way", "most"], "by_line": ["program", "way", "most"],
+                "callers": ["program", "way", "most"], "dearest_path": ["program", "way", "most"],
+                "longest": ["program", "way", "most"]},
+    "journals": {"journal": ["bench"], "read_journal": ["text"]},
 }
 METHODS = {
     ("texts", "Program"): {"__init__": ["text"], "line": ["name"], "word": ["place"], "inner": ["place"],
@@ -52,12 +59,20 @@ METHODS = {
                         "drop": ["name", "call"], "piece": ["name", "call"], "__len__": [], "__contains__": ["value"],
                         "__eq__": ["other"]},
     ("asking", "Asked"): {"ask": ["name", "numbers"], "run_piece": [], "book": [], "at": ["number"], "__eq__": ["other"]},
+    ("benches", "Bench"): {"__init__": ["text", "way"], "go": ["most"], "back": ["many"], "line": ["name", "line"],
+                           "expression": ["text"], "bind": ["way"], "learn": [], "watch": ["place"], "unwatch": ["place"],
+                           "run_now": [], "book_now": [], "next_place": [], "signs": [], "known": [], "undo": [], "redo": [],
+                           "block": [], "keep": [], "tried": ["look", "keep"], "copy": [], "__len__": [],
+                           "__contains__": ["value"], "__eq__": ["other"]},
+    ("desk", "Desk"): {"__init__": ["text"], "say": ["line"]},
 }
 ATTRIBUTES = {
     ("texts", "Program"): ("text", "parts", "places", "bindings"),
     ("runs", "Run"): ("program", "way", "end", "next", "places", "unders", "begins"),
     ("books", "Book"): ("parts", "way", "pieces"),
     ("asking", "Asked"): ("end", "steps", "asks"),
+    ("benches", "Bench"): ("program", "way", "watched", "deeds"),
+    ("desk", "Desk"): ("bench",),
 }
 
 
@@ -65,7 +80,8 @@ def one_of_each():
     """An object of each class of the interface, by its name."""
     program = Program("part f fun x x\nrun call f 1")
     return {"Program": program, "Run": ended(program, "need", 1), "Book": Book("part f fun x x", "need"),
-            "Asked": asked(program, "value", 9)}
+            "Asked": asked(program, "value", 9), "Bench": Bench(program.text, "need"),
+            "Desk": Desk(program.text + "\nway need\ndeeds")}
 
 
 def own(kind, name):
@@ -89,6 +105,10 @@ class Names(unittest.TestCase):
                 self.assertIn(method, vars(told))
                 self.assertEqual(list(inspect.signature(vars(told)[method]).parameters), ["self"] + parameters, method)
 
+    def test_what_stands_behind_a_star_is_passed_by_name(self):
+        keep = inspect.signature(Bench.tried).parameters["keep"]
+        self.assertEqual([keep.kind, keep.default], [inspect.Parameter.KEYWORD_ONLY, False])
+
     def test_attributes_are_set_when_an_object_is_created(self):
         for (kind, name), attributes in ATTRIBUTES.items():
             thing = one_of_each()[name]
@@ -104,7 +124,7 @@ class Conventions(unittest.TestCase):
                  operator.floordiv, operator.mod, operator.and_, operator.or_, operator.xor, operator.lshift,
                  operator.rshift, operator.getitem]
         for thing in things:
-            more = [] if isinstance(thing, Book) else [operator.contains]
+            more = [] if isinstance(thing, (Book, Bench)) else [operator.contains]
             for other in any_values() + things:
                 for sign in signs + more:
                     with self.assertRaises(TypeError):
@@ -114,7 +134,7 @@ class Conventions(unittest.TestCase):
                     sign(thing)
 
     def test_programs_and_asked_have_no_length(self):
-        for name in ("Program", "Asked"):
+        for name in ("Program", "Asked", "Desk"):
             with self.assertRaises(TypeError):
                 len(one_of_each()[name])
 
@@ -141,6 +161,13 @@ class Conventions(unittest.TestCase):
         piece = pieces(program, "need", 9)[1]
         book.put(piece)
         self.assertIsNone(book.drop(*piece[:2]))
+        bench = Bench(program.text, "need")
+        bench.go(1)
+        told = [bench.back(1), bench.watch(("run", 1)), bench.unwatch(("run", 1)), bench.line("f", "part f fun x 1"),
+                bench.expression("5"), bench.bind("name"), bench.undo(), bench.redo()]
+        with bench.block():
+            told.append(bench.keep())
+        self.assertEqual(told, [None] * 9)
 
     def test_arguments_are_not_changed(self):
         program = Program("part f fun x x\nrun plus call f 1 call f 2")

@@ -56,7 +56,7 @@ class Tally:
         answer = self.answers[self.scene.ask_at(node)]
         rows = len(found.calls) + 1
         bill = (rows + answer.cost, rows, {})
-        for inner, call, looks in zip(found.given, reversed(found.calls), answer.looks):
+        for inner, call, looks in zip(found.given, found.calls[::-1], answer.looks):
             self.copies[inner.place] = times_bound(self.words[call.place], looks)
             bill = with_bill(bill, self._bill(inner), self.copies[inner.place])
         return bill
