@@ -241,7 +241,7 @@ class Refused(Refusals, unittest.TestCase):
         told = asked(SUM_OF, "need", 9)
         self.assertEqual(told.ask(numbers=(3, 4), name="add"), (7, 4, (1, 1)))
         others = [("add", (4, 3)), ("add", [3, 4]), ("add", (3,)), ("add", (3, 4, 5)), ("run", ()), ("add", ()),
-                  (None, (3, 4)), ("add", None), ((3, 4), "add"), ("add", ((3, 4),)), ("add", (3, "4")), ([], {})]
+                  (None, (3, 4)), ([], (3, 4)), ("add", None), ((3, 4), "add"), ("add", ((3, 4),)), ("add", (3, "4")), ([], {})]
         for name, numbers in others + [(value, value) for value in any_values()]:
             self.assert_refused_equal(NoAsk, (name, numbers), told.ask, name, numbers)
         one = asked(Program("part f fun x x\nrun plus call f 1 call f 0"), "need", 9)

@@ -1,5 +1,6 @@
 """Point 15, the bench, held to a second one that does all deeds anew; point 3 (j)."""
 
+import importlib
 import random
 import unittest
 from unittest import mock
@@ -304,6 +305,13 @@ class Deeds(Refusals, unittest.TestCase):
         with mock.patch.object(usage, "WIDEST", 1):
             self.assert_refused_equal(Wide, 1, table.learn)
         self.assertEqual(table.deeds, 1)
+
+    def test_learn_just_as_long_as_may_be(self):
+        self.bench.go(99)
+        with mock.patch.object(importlib.import_module("uselots.benches"), "WIDEST_RUN", 13):
+            self.assert_refused_equal(Wide, 13, self.bench.learn)
+        with mock.patch.object(importlib.import_module("uselots.benches"), "WIDEST_RUN", 14):
+            self.assertEqual(self.bench.learn(), 3)
 
     def test_learn_long_runs(self):
         text = "part s fun n pick n 0 plus 1 call s plus n -1\npart d fun x plus x x\nrun call s call d call d call d call d 99"

@@ -115,6 +115,9 @@ class Put(Refusals, unittest.TestCase):
             if piece not in others:
                 self.assert_refused(BadPiece, piece, book.put, piece)
         self.assertEqual(len(book), 0)
+        # The line run of the book's own program is no part's either.
+        empty_run = pieces(joined_text(PARTS, "0"), "need", 9)[0]
+        self.assert_refused(BadPiece, empty_run, book.put, empty_run)
         elsewhere = pieces(joined_text("part twice fun x plus x 0", "call twice 1"), "need", 99)[1]
         self.assert_refused(BadPiece, elsewhere, book.put, elsewhere)
 
@@ -552,6 +555,17 @@ class Settled(Refusals, unittest.TestCase):
         ids = Book("part id fun x x", "need")
         ids.learn(joined_text(ids.parts, "first call id pair 1 2"), 99)
         self.assert_refused_equal(Lacks, ("id", (1,)), settled, ids, "call id 1")
+
+    def test_looks_at_several_numbers_do_not_fit(self):
+        """By hand a piece may look at one argument as unlike numbers."""
+        table = (("number", 1), ("number", 2), ("number", 3))
+        odd = ("twice", (table, ((0, 1), (1, 1)), 2), table, ((("twice", 4), 2, -1), (("twice", 5), 0, 0), (("twice", 6), 1, 0)))
+        book = Book(PARTS, "need")
+        self.assertIs(book.put(odd), True)
+        for number in (1, 2, 3):
+            self.assert_refused_equal(Lacks, ("twice", (number,)), settled, book, f"call twice {number}")
+        book.learn(joined_text(PARTS, "call twice 1"), 9)
+        self.assertEqual(settled(book, "call twice 1")[:2], (("number", 2), 6))
 
     def test_not_plain(self):
         book = Book(PARTS, "need")

@@ -68,6 +68,10 @@ class Exchanged(Refusals, unittest.TestCase):
                "part b fun y let b 1 2", "part b fun y run", "part b fun y y\nrun 1"]
         for value in any_values() + bad:
             self.assert_refused(BadLine, value, exchanged, program, "b", value)
+        # With these, too, the text is a program's.
+        lonely = Program("part a fun x x\npart b fun y y\nrun 1")
+        for value in ("part b fun y y\npart d fun u u", "part d fun y y", "part a2 fun y y"):
+            self.assert_refused(BadLine, value, exchanged, lonely, "b", value)
         # A name that the newer line binds may be that of another part, or one that another line uses.
         program = Program("part a fun x c\npart c fun y y\nrun let z 1 z")
         for line in ("part c fun a a", "part a fun c c", "part z fun y y"):

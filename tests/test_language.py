@@ -207,6 +207,22 @@ class Classes(unittest.TestCase):
             if isinstance(node.func, ast.Attribute):
                 self.assertIn(node.func.attr, BUILTIN_METHODS | own, where(name, node))
 
+    def test_attributes_are_assigned_through_a_local_name(self):
+        for name, node in walk(ast.Attribute):
+            if isinstance(node.ctx, ast.Store):
+                self.assertIsInstance(node.value, ast.Name, where(name, node))
+
+    def test_exits_only_put_back(self):
+        """What may stand in an __exit__: assignments of names and attributes, and questions about them."""
+        for name, node in walk(ast.FunctionDef):
+            if node.name == "__exit__":
+                kinds = (ast.FunctionDef, ast.arguments, ast.arg, ast.Assign, ast.Attribute, ast.Name, ast.If, ast.BoolOp, ast.Or,
+                         ast.And, ast.UnaryOp, ast.Not, ast.Compare, ast.Is, ast.IsNot, ast.Constant, ast.Load, ast.Store)
+                for inner in ast.walk(node):
+                    self.assertIsInstance(inner, kinds, where(name, node))
+                    if isinstance(inner, ast.Compare):
+                        self.assertEqual(ast.unparse(inner), "kind is not None")
+
     def test_attributes_that_are_read_are_set_somewhere(self):
         known = set(self.methods) | set(self.attributes) | self.properties | BUILTIN_METHODS
         for name, node in walk(ast.Attribute):

@@ -8,7 +8,7 @@ from cutter import Cutter
 from helpers import Refusals, any_values
 from judge import Judge, piece_is_right
 from programs import PROGRAMS, programs_and_ways
-from samples import WORDS, sample, sample_ways, siblings
+from samples import WORDS, sample_ways, siblings
 from tables import content, content_of
 from uselots import usage
 from uselots.errors import BadMost, BadPiece, BadWay, NoProgram, NotEnded, StuckAt, Wide

@@ -238,9 +238,10 @@ class Bench:
 
     def keep(self):
         """Keeps what is done in the innermost block."""
-        if self.innermost is None:
+        innermost = self.innermost
+        if innermost is None:
             raise NoBlock(None)
-        self.innermost.kept = True
+        innermost.kept = True
 
     def tried(self, look, *, keep=False):
         """What look returns of the bench; what it does there is kept if keep is True."""

@@ -116,8 +116,11 @@ def dearest_path(program, way, most):
     children = children_of(machine)
     steps = [0]
     while children[steps[-1]]:
-        most_beneath = max([sizes[child] for child in children[steps[-1]]])
-        steps.append([child for child in children[steps[-1]] if sizes[child] == most_beneath][0])
+        dearest = children[steps[-1]][0]
+        for child in children[steps[-1]]:
+            if sizes[child] > sizes[dearest]:
+                dearest = child
+        steps.append(dearest)
     return tuple(steps)
 
 

@@ -49,7 +49,8 @@ class Descent:
         self.found.append(piece)
         self.orders.append(requested(self.base, piece))
         self.leads.append([])
-        self.numbers.setdefault(piece[0], {})[piece[1]] = number
+        calls = self.numbers.setdefault(piece[0], {})
+        calls[piece[1]] = number
         return number
 
     def totals(self):

@@ -66,5 +66,6 @@ def elder_nodes(root, name):
         twins[node] = twin
         waiting.extend(node.within)
     for node in twins:
-        twins[node].within = [twins[inner] for inner in node.within]
+        twin = twins[node]
+        twin.within = [twins[inner] for inner in node.within]
     return twins
