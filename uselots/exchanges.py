@@ -86,7 +86,7 @@ def compared(program, way, most, name, line):
     ones = by_calls(outer_calls_of(program, way, before, name, 0))
     others = by_calls(outer_calls_of(newer, way, behind, name, 0))
     changes = []
-    for call in sorted(list({**ones, **others})):
+    for call in sorted(list(ones) + [call for call in others if call not in ones]):
         one, other = ones.get(call, (0, 0)), others.get(call, (0, 0))
         if one[0] != other[0]:
             return ("other", steps, later, call)

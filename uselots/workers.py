@@ -25,15 +25,16 @@ class Worker:
         if wanted in self.answers:
             return self.answers[wanted]
         opened = {}
-        scenes = [self._begin(wanted, opened)]
-        while scenes:
-            further = scenes[-1].go_on(self.answers)
+        waiting = [(wanted, self._begin(wanted, opened))]
+        while waiting:
+            newest, scene = waiting[-1]
+            further = scene.go_on(self.answers)
             if further is not None:
-                scenes.append(self._begin(further, opened))
+                waiting.append((further, self._begin(further, opened)))
             else:
-                ready = list(opened)[-1]
-                del opened[ready]
-                self.answers[ready] = self._answer(ready, scenes.pop())
+                waiting.pop()
+                del opened[newest]
+                self.answers[newest] = self._answer(newest, scene)
         return self.answers[wanted]
 
     def _begin(self, wanted, opened):
