@@ -7,12 +7,14 @@ from unittest import mock
 
 from helpers import Refusals, any_values, refused
 from pieces_by_hand import call_of, handed
+from plains import plains_and_ways
 from programs import PROGRAMS, programs_and_ways
 from samples import WORDS, sample_ways, siblings
 from uselots import usage
+from uselots.asking import asked
 from uselots.books import Book, joined, least, needs, settled, size, times, whole
-from uselots.errors import (BadMost, BadPiece, BadProgram, BadWay, Lacks, NoPiece, NoProgram, NotEnded, NotPlain,
-                            OtherParts, Quarrel, Ring, StuckAt, Wide)
+from uselots.errors import (BadMost, BadPiece, BadProgram, BadWay, Endless, Lacks, NoPiece, NoProgram, NotEnded,
+                            NotPlain, OtherParts, Quarrel, Ring, StuckAt, TooMany, Wide)
 from uselots.papers import paper
 from uselots.pieces import is_piece, pieces, requests
 from uselots.runs import ended
@@ -497,6 +499,24 @@ class Settled(Refusals, unittest.TestCase):
                 self.assertEqual((kind, steps), (run.end, len(run)), (way, expression))
                 self.assertEqual(piece, pieces(program, way, 9999)[0])
                 self.assertEqual(whole(book, expression, piece), (kind, steps))
+
+    def test_beside_asked(self):
+        """A book of the pieces of all asks settles what was asked."""
+        many = 0
+        for program, way in plains_and_ways(150):
+            try:
+                told = asked(program, without_run(way), 60)
+                book, own = told.book(), told.run_piece()
+            except (Endless, TooMany, Wide):
+                continue
+            self.assertEqual(settled(book, program.line("run")[4:]), (told.end, told.steps, own))
+            for name, call in [piece[:2] for piece in book.pieces[:2]]:
+                fewer = joined(book, book)
+                fewer.drop(name, call)
+                kind = refused(settled, fewer, program.line("run")[4:])
+                self.assertIn(kind if kind is None else kind[0], (None, Lacks))
+            many += len(told.asks) > 2
+        self.assertGreater(many, 150)
 
     def test_arguments_that_nobody_looks_at(self):
         """They are worked out all the same: their calls may lack."""

@@ -46,6 +46,7 @@ def exchange(machine, program, way, name):
     machine.words = words
     machine.nodes = [twins.get(node, node) for node in machine.nodes]
     for step, node in enumerate(machine.nodes):
+        # What a part's NAME made is of the line that it had then.
         if node.kind == "part":
             made = machine.memory[step]
             machine.memory[step] = twins.get(made, made)

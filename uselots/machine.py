@@ -17,6 +17,8 @@ NOBODY = -1
 class Machine:
     """A program at work: its steps so far, and what is due next.
 
+    `words` has how each binding place binds, `funs` the fun of each part's line; both also
+    for lines that were exchanged amid the run, by their elder names.
     Of each step there are its node, the room in which it is worked out, the steps under
     which it stands, that began it, and that waits for its value (`behind`, -1 if
     the run does), and how long `log` was when it began (`marks`).
