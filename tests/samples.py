@@ -112,6 +112,14 @@ def sample_ways(program, seed):
     return ways
 
 
+def without(way, name):
+    """The way without its changes in the line of this name; its word alone, if none is left."""
+    if way in WORDS:
+        return way
+    changes = tuple(change for change in way[1] if change[0][0] != name)
+    return (way[0], changes) if changes else way[0]
+
+
 def siblings(seed, many):
     """Programs made by lot that have the same parts' lines, and unlike expressions."""
     maker = Maker(seed)

@@ -2,7 +2,7 @@
 
 import random
 
-from samples import WORDS, Maker
+from samples import WORDS, Maker, without
 from uselots.asking import asked, is_plain
 from uselots.books import Book, whole
 from uselots.errors import (Amid, BadExpression, BadMany, BadPiece, BadPlace, BadProgram, BadWay, Endless, Lacks, NotEnded,
@@ -13,14 +13,6 @@ from uselots.runs import Run
 from uselots.texts import Program, joined_text, parts_text
 
 
-def left(way, name):
-    """The way without its changes in this line."""
-    if way in WORDS:
-        return way
-    changes = tuple(change for change in way[1] if change[0][0] != name)
-    return (way[0], changes) if changes else way[0]
-
-
 class Slow:
     """All that a bench tells behind these deeds, tuples of their word and arguments."""
 
@@ -29,7 +21,7 @@ class Slow:
         self.run = Run(self.program, way)
         self.way, self.watched, self.amid, self.floor = way, [], False, 0
         self.beside = {}
-        self.book = Book(parts_text(self.program), left(way, "run"))
+        self.book = Book(parts_text(self.program), without(way, "run"))
         for deed in deeds:
             self.do(*deed)
 
@@ -49,8 +41,8 @@ class Slow:
         self.run = exchanged_run(self.run, name, line)
         self.floor = len(self.run)
         self.program = exchanged(self.program, name, line)
-        self.way = left(self.way, name)
-        book, self.book = self.book, Book(parts_text(self.program), left(self.way, "run"))
+        self.way = without(self.way, name)
+        book, self.book = self.book, Book(parts_text(self.program), without(self.way, "run"))
         for piece in book.pieces:
             if not self.leads(piece[0], name, set()):
                 self.book.put(piece)
@@ -73,7 +65,7 @@ class Slow:
             program = joined_text(parts_text(self.program), text)
         except BadProgram:
             raise BadExpression(text)
-        self.begin(program, left(self.way, "run"))
+        self.begin(program, without(self.way, "run"))
         self.watched = [place for place in self.watched if place[0] != "run"]
 
     def do_bind(self, way):
@@ -81,7 +73,7 @@ class Slow:
             self.begin(self.program, way)
         except BadWay:
             raise BadWay(way)
-        self.book = Book(parts_text(self.program), left(way, "run"))
+        self.book = Book(parts_text(self.program), without(way, "run"))
         self.beside = {}
 
     def do_learn(self):

@@ -6,7 +6,7 @@ from unittest import mock
 from helpers import Refusals, any_values, refused
 from plains import FAR, PLAINS, Again, Asker, More, plain_sample, plains_and_ways
 from programs import PROGRAMS
-from samples import WORDS, sample
+from samples import WORDS, sample, without
 from uselots.asking import Asked, arity, asked, is_plain
 from uselots.books import Book, size, whole
 from uselots.errors import (BadMany, BadMost, BadWay, Endless, NoAsk, NoPart, NoProgram, NotEnded, NotPlain, TooMany,
@@ -29,13 +29,6 @@ def short(many, most=MOST):
             continue
         if told.steps <= most:
             yield program, way, told
-
-
-def without_run(way):
-    if way in WORDS:
-        return way
-    changes = tuple(change for change in way[1] if change[0][0] != "run")
-    return (way[0], changes) if changes else way[0]
 
 
 class Plain(Refusals, unittest.TestCase):
@@ -100,7 +93,7 @@ class BesideRuns(unittest.TestCase):
         """One call by itself, its arguments written as numbers: what it takes, and how often it looks at each."""
         many = 0
         for program, way, told in short(60, 400):
-            way = without_run(way)
+            way = without(way, "run")
             for name, numbers, result, steps, looks in told.asks:
                 if not all(-99 <= number <= 99 for number in numbers):
                     continue
@@ -253,7 +246,7 @@ class Refused(Refusals, unittest.TestCase):
 class Told(Refusals, unittest.TestCase):
     def test_run_piece_and_book_beside_pieces(self):
         for program, way, told in short(120, 400):
-            if way != without_run(way):
+            if way != without(way, "run"):
                 continue
             here = pieces(program, way, MOST)
             self.assertEqual(told.run_piece(), here[0])

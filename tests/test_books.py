@@ -9,7 +9,7 @@ from helpers import Refusals, any_values, refused
 from pieces_by_hand import call_of, handed
 from plains import plains_and_ways
 from programs import PROGRAMS, programs_and_ways
-from samples import WORDS, sample_ways, siblings
+from samples import WORDS, sample_ways, siblings, without
 from uselots import usage
 from uselots.asking import asked
 from uselots.books import Book, joined, least, needs, settled, size, times, whole
@@ -27,17 +27,10 @@ FOUR = joined_text(PARTS, "call four 1")
 ROUND = "part ping fun x call pong x\npart pong fun x call ping x\npart pang fun x call pong x"
 
 
-def without_run(way):
-    if way in WORDS:
-        return way
-    changes = tuple(change for change in way[1] if change[0][0] != "run")
-    return (way[0], changes) if changes else way[0]
-
-
 def ending(many):
     """Programs and ways without changes in the run's line by which they end with a value."""
     for program, way in programs_and_ways(many):
-        way = without_run(way)
+        way = without(way, "run")
         try:
             yield program, way, pieces(program, way, MOST)
         except (NotEnded, StuckAt):
@@ -426,7 +419,7 @@ class Whole(Refusals, unittest.TestCase):
         many = {True: 0, False: 0}
         for seed in range(120):
             programs = siblings(seed, 4)
-            for way in WORDS + tuple(without_run(way) for way in sample_ways(programs[0], seed) if way not in WORDS)[:1]:
+            for way in WORDS + tuple(without(way, "run") for way in sample_ways(programs[0], seed) if way not in WORDS)[:1]:
                 book = Book(parts_text(programs[0]), way)
                 for program in programs[1:]:
                     refused(book.learn, program, MOST)
@@ -505,7 +498,7 @@ class Settled(Refusals, unittest.TestCase):
         many = 0
         for program, way in plains_and_ways(150):
             try:
-                told = asked(program, without_run(way), 60)
+                told = asked(program, without(way, "run"), 60)
                 book, own = told.book(), told.run_piece()
             except (Endless, TooMany, Wide):
                 continue

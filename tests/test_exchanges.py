@@ -8,7 +8,7 @@ from cutter import Cutter
 from helpers import Refusals, any_values, refused
 from pieces_by_hand import call_of, handed
 from programs import PROGRAMS, programs_and_ways
-from samples import WORDS, Maker, sample
+from samples import WORDS, Maker, sample, without
 from uselots import usage
 from uselots.books import Book
 from uselots.errors import (BadLine, BadMany, BadMost, BadWay, Lacks, NoPart, NoPiece, NoProgram, NotEnded, OtherParts,
@@ -38,12 +38,16 @@ def slower(program, name):
     return " ".join(words[:4] + ["let", "slow", "0"] + words[4:])
 
 
-def alone_in(way, name):
-    """The way without its changes in this line."""
-    if way in WORDS:
-        return way
-    changes = tuple(change for change in way[1] if change[0][0] != name)
-    return (way[0], changes) if changes else way[0]
+def made_slower(many, leave=()):
+    """Programs that end with a value, by ways without changes in a part's line, nor in those left; this part, its slower line."""
+    for program, way, _ in ending(many):
+        for name in program.parts:
+            line = slower(program, name)
+            its = without(way, name)
+            for other in leave:
+                its = without(its, other)
+            if is_program(program, name, line) and refused(paper, program, its, MOST) is None:
+                yield program, its, name, line
 
 
 def is_program(program, name, line):
@@ -167,20 +171,15 @@ class Compared(Refusals, unittest.TestCase):
     def test_the_same(self):
         """Lines that do the same, one or two steps slower for each call, also for those within."""
         many = 0
-        for program, way, told in ending(100):
-            for name in program.parts:
-                line = slower(program, name)
-                its = alone_in(way, name)
-                if not is_program(program, name, line) or refused(paper, program, its, MOST):
-                    continue
-                newer = exchanged(program, name, line)
-                run = ended(newer, its, 20000)
-                word, steps, later, changes = compared(program, its, 20000, name, line)
-                self.assertEqual([word, steps, later], ["same", len(ended(program, its, 20000)), len(run)])
-                self.assertEqual(later, steps + sum(count * (new - old) for _, count, old, new in changes))
-                self.assertEqual([row[:3] for row in changes], list(outer_calls(program, its, 20000, name)))
-                self.assertEqual([row[:2] + row[3:] for row in changes], list(outer_calls(newer, its, 20000, name)))
-                many += len(changes) > 0
+        for program, way, name, line in made_slower(100):
+            newer = exchanged(program, name, line)
+            run = ended(newer, way, 20000)
+            word, steps, later, changes = compared(program, way, 20000, name, line)
+            self.assertEqual([word, steps, later], ["same", len(ended(program, way, 20000)), len(run)])
+            self.assertEqual(later, steps + sum(count * (new - old) for _, count, old, new in changes))
+            self.assertEqual([row[:3] for row in changes], list(outer_calls(program, way, 20000, name)))
+            self.assertEqual([row[:2] + row[3:] for row in changes], list(outer_calls(newer, way, 20000, name)))
+            many += len(changes) > 0
         self.assertGreater(many, 60)
 
     def test_the_same_line(self):
@@ -300,26 +299,21 @@ class Compared(Refusals, unittest.TestCase):
 class Predicted(Refusals, unittest.TestCase):
     def test_beside_runs(self):
         many = 0
-        for program, way, _ in ending(100):
-            for name in program.parts:
-                line = slower(program, name)
-                its = alone_in(way, name)
-                if not is_program(program, name, line) or refused(paper, program, its, MOST):
-                    continue
-                newer = exchanged(program, name, line)
-                book = Book(parts_text(newer), alone_in(its, "run"))
-                if refused(book.learn, newer, 20000):
-                    # The way without its changes in the run's line does not end.
-                    continue
-                try:
-                    steps = predicted(program, its, MOST, name, book)
-                except NoPiece as error:
-                    # The way without its changes in the run's line may ask otherwise.
-                    self.assertNotEqual(its, alone_in(its, "run"))
-                    self.assertNotIn(error.value, book)
-                    continue
-                self.assertEqual(steps, ("steps", len(ended(newer, its, 20000))))
-                many += 1
+        for program, way, name, line in made_slower(100):
+            newer = exchanged(program, name, line)
+            book = Book(parts_text(newer), without(way, "run"))
+            if refused(book.learn, newer, 20000):
+                # The way without its changes in the run's line does not end.
+                continue
+            try:
+                steps = predicted(program, way, MOST, name, book)
+            except NoPiece as error:
+                # The way without its changes in the run's line may ask otherwise.
+                self.assertNotEqual(way, without(way, "run"))
+                self.assertNotIn(error.value, book)
+                continue
+            self.assertEqual(steps, ("steps", len(ended(newer, way, 20000))))
+            many += 1
         self.assertGreater(many, 60)
 
     def test_other_parts(self):
@@ -366,28 +360,23 @@ class Predicted(Refusals, unittest.TestCase):
 class Amid(Refusals, unittest.TestCase):
     def test_predicted_run_beside_exchanged_runs(self):
         many = 0
-        for program, way, told in ending(60):
-            for name in program.parts:
-                line = slower(program, name)
-                its = alone_in(alone_in(way, name), "run")
-                if not is_program(program, name, line) or refused(paper, program, its, MOST):
+        for program, way, name, line in made_slower(60, ["run"]):
+            newer = exchanged(program, name, line)
+            book = Book(parts_text(newer), way)
+            book.learn(newer, 20000)
+            steps = len(ended(program, way, MOST))
+            for number in sorted({0, 1, 2, 3, 5, 8, 13, 21, 34, 55, steps // 2, steps - 2, steps - 1}):
+                if not 0 <= number < steps:
                     continue
-                newer = exchanged(program, name, line)
-                book = Book(parts_text(newer), its)
-                book.learn(newer, 20000)
-                steps = len(ended(program, its, MOST))
-                for number in sorted({0, 1, 2, 3, 5, 8, 13, 21, 34, 55, steps // 2, steps - 2, steps - 1}):
-                    if not 0 <= number < steps:
-                        continue
-                    run = Run(program, its)
-                    if number:
-                        run.go(number)
-                    run = exchanged_run(run, name, line)
-                    run.go(20000)
-                    self.assertEqual(predicted_run(program, its, MOST, number, name, book), ("steps", len(run)))
-                    many += 1
-                self.assertEqual(predicted_run(program, its, MOST, steps, name, book), ("steps", steps))
-                self.assertEqual(predicted_run(program, its, MOST, 0, name, book), predicted(program, its, MOST, name, book))
+                run = Run(program, way)
+                if number:
+                    run.go(number)
+                run = exchanged_run(run, name, line)
+                run.go(20000)
+                self.assertEqual(predicted_run(program, way, MOST, number, name, book), ("steps", len(run)))
+                many += 1
+            self.assertEqual(predicted_run(program, way, MOST, steps, name, book), ("steps", steps))
+            self.assertEqual(predicted_run(program, way, MOST, 0, name, book), predicted(program, way, MOST, name, book))
         self.assertGreater(many, 300)
 
     def test_refused(self):

@@ -9,7 +9,7 @@ from helpers import refused
 from plains import PLAINS, plain_sample
 from programs import PROGRAMS, programs_and_ways
 from renaming import Renamed
-from samples import WORDS, sample, sample_ways
+from samples import WORDS, sample, sample_ways, without
 from slow import Hand, do, line_of, told_of
 from uselots.alike import alike, never_dearer, table
 from uselots.asking import arity, asked, is_plain
@@ -35,13 +35,6 @@ def ending(many):
         run = ended(program, way, MOST)
         if run.end is not None and run.end[0] != "stuck":
             yield program, way, run
-
-
-def without_run(way):
-    if way in WORDS:
-        return way
-    changes = tuple(change for change in way[1] if change[0][0] != "run")
-    return (way[0], changes) if changes else way[0]
 
 
 class TheSameSteps(unittest.TestCase):
@@ -82,7 +75,7 @@ class TheSameSteps(unittest.TestCase):
 
     def pieces_and_books(self, program, way, run):
         own, *others = pieces(program, way, MOST)
-        if way != without_run(way):
+        if way != without(way, "run"):
             return
         book = Book(parts_text(program), way)
         self.assertEqual(book.learn(program, MOST), len(others))
@@ -126,7 +119,7 @@ class TheSameSteps(unittest.TestCase):
         self.assertEqual(bench.learn(), len(pieces(program, way, MOST)) - 1)
         self.assertEqual(bench.book_now().pieces, pieces(program, way, MOST)[1:])
         bench.back(len(run))
-        if way == without_run(way):
+        if way == without(way, "run"):
             self.assertEqual(bench.known(), len(run))
         desk = Desk(journal(bench))
         self.assertTrue(desk.bench == bench)
@@ -189,7 +182,7 @@ class Names(unittest.TestCase):
             self.assertEqual(set(twins), set(other.piece(piece) for piece in told))
             self.assertEqual([piece[0] for piece in twins[1:]],
                              sorted([piece[0] for piece in twins[1:]], key=its.parts.index))
-            if way != without_run(way):
+            if way != without(way, "run"):
                 continue
             book, twin = Book(parts_text(program), way), Book(parts_text(its), its_way)
             book.learn(program, MOST)
@@ -231,7 +224,7 @@ class Names(unittest.TestCase):
                 if told.steps < 1000:
                     self.assertEqual(twin.run_piece(), other.piece(told.run_piece()))
                     self.assertEqual(set(twin.book().pieces), set(other.piece(piece) for piece in told.book().pieces))
-                many += self.alike(program, other, without_run(way))
+                many += self.alike(program, other, without(way, "run"))
         self.assertGreater(many, 20)
 
     def alike(self, program, other, way):
