@@ -75,6 +75,7 @@ class BesideAnother(unittest.TestCase):
 
     def back_and_on(self, run, floor, told):
         last = all_of(run)
+        self.assertEqual([all_of(run.copy()), run.copy()], [last, run])
         many = len(run) - floor
         lot = random.Random(many)
         while len(run) > floor:
