@@ -7,6 +7,7 @@ import pathlib
 import re
 import unittest
 
+from exits import ALONE_ROWS, RIGHT_ROWS, WRONG_ROWS, asks_alone, exit_of, exits_in, refused_rows
 from uselots import errors
 
 FOLDER = pathlib.Path(__file__).parent.parent / "uselots"
@@ -212,21 +213,41 @@ class Classes(unittest.TestCase):
             if isinstance(node.ctx, ast.Store):
                 self.assertIsInstance(node.value, ast.Name, where(name, node))
 
-    def test_exits_only_put_back(self):
-        """What may stand in an __exit__: assignments of names and attributes, and questions about them."""
-        for name, node in walk(ast.FunctionDef):
-            if node.name == "__exit__":
-                kinds = (ast.FunctionDef, ast.arguments, ast.arg, ast.Assign, ast.Attribute, ast.Name, ast.If, ast.BoolOp, ast.Or,
-                         ast.And, ast.UnaryOp, ast.Not, ast.Compare, ast.Is, ast.IsNot, ast.Constant, ast.Load, ast.Store)
-                for inner in ast.walk(node):
-                    self.assertIsInstance(inner, kinds, where(name, node))
-                    if isinstance(inner, ast.Compare):
-                        self.assertEqual(ast.unparse(inner), "kind is not None")
-
     def test_attributes_that_are_read_are_set_somewhere(self):
         known = set(self.methods) | set(self.attributes) | self.properties | BUILTIN_METHODS
         for name, node in walk(ast.Attribute):
             self.assertIn(node.attr, known, where(name, node))
+
+
+class Exits(unittest.TestCase):
+    def test_exits_hold_only_what_they_may(self):
+        trees = [tree for _, _, tree in files()]
+        self.assertTrue([tree for tree in trees if exits_in(tree)])
+        for path, _, tree in files():
+            self.assertEqual(refused_rows(tree, asks_alone(trees)), [], path.name)
+
+    def test_objects_of_the_package_are_not_asked_alone(self):
+        self.assertFalse(asks_alone([tree for _, _, tree in files()]))
+        for name in ("__eq__", "__len__"):
+            self.assertFalse(asks_alone([ast.parse("x = 1"), ast.parse(f"class Box:\n    def {name}(self): pass")]), name)
+        self.assertTrue(asks_alone([ast.parse("class Box:\n    def __init__(self): pass\n\ndef __len__(): pass")]))
+
+    def test_rows_that_are_found(self):
+        for row in WRONG_ROWS + ALONE_ROWS:
+            self.assertEqual(refused_rows(exit_of(row), False), [4], row)
+        for row in WRONG_ROWS:
+            self.assertEqual(refused_rows(exit_of(row), True), [4], row)
+
+    def test_rows_that_may_stand(self):
+        for row in RIGHT_ROWS:
+            self.assertEqual(refused_rows(exit_of(row), False), [], row)
+        for row in ALONE_ROWS:
+            self.assertEqual(refused_rows(exit_of(row), True), [], row)
+
+    def test_the_rows_beneath_an_if(self):
+        rows = "if kind is None:\n            pass\n        elif self.kept is None:\n            {}\n        else:\n            {}"
+        self.assertEqual(refused_rows(exit_of(rows.format("host.latest = self.latest", "pass")), False), [])
+        self.assertEqual(refused_rows(exit_of(rows.format("host.keep()", "del host.latest")), False), [7, 9])
 
 
 if __name__ == "__main__":

@@ -63,11 +63,14 @@ class Undone:
 
 
 class Block:
-    """A block at a bench: behind it the bench is as it was ahead of it, unless it is kept."""
+    """A block at a bench: behind it the bench is as it was ahead of it, unless it is kept.
+
+    `kept` is None until keep is called in it: an exit asks an attribute by None alone.
+    """
 
     def __init__(self, host):
         self.host = host
-        self.kept = False
+        self.kept = None
         self.latest = None
         self.undone = None
         self.outer = None
@@ -82,7 +85,7 @@ class Block:
 
     def __exit__(self, kind, value, trace):
         host = self.host
-        if kind is not None or not self.kept:
+        if kind is not None or self.kept is None:
             host.latest = self.latest
             host.undone = self.undone
         host.innermost = self.outer
